@@ -1,0 +1,1 @@
+"""Onethrow: one joint throw for all beginnings of a machine of chances."""
