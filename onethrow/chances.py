@@ -4,7 +4,7 @@ from math import gcd, lcm
 
 from onethrow.errors import BadName, BadNumber, BadShares, BadText, UnknownName
 from onethrow.ratios import Ratio, total
-from onethrow.words import check_names, decimal, is_name, is_positive
+from onethrow.words import check_names, decimal, is_name, wrong_word
 
 
 def _least(weights):
@@ -62,11 +62,9 @@ class Chance:
     def read(cls, text):
         """Return the chance of a text of names and weights."""
         words = text.split(" ")
-        for at, word in enumerate(words):
-            if word == "" or (at % 2 == 1 and not is_positive(word)):
-                raise BadText(at)
-        if len(words) % 2 == 1:
-            raise BadText(len(words))
+        at = wrong_word(words)
+        if at is not None:
+            raise BadText(at)
         check_names(words[::2])
         return cls({name: int(word) for name, word in zip(words[::2], words[1::2])})
 

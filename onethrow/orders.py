@@ -1,17 +1,9 @@
 """Orders of up to eight names."""
 
 from onethrow.errors import BadNumber, BadText, DuplicateName, Ring, UnknownName
-from onethrow.words import check_names
+from onethrow.words import check_among, check_names
 
 MOST_NAMES = 8
-
-
-def _check_pairs(names, pairs):
-    """Raise the error of the first name in the pairs that is not among the names."""
-    for pair in pairs:
-        for name in pair:
-            if name not in names:
-                raise UnknownName(name)
 
 
 def _closure(names, pairs):
@@ -38,7 +30,8 @@ class Order:
         if not 1 <= len(names) <= MOST_NAMES:
             raise BadNumber(len(names))
         check_names(names)
-        _check_pairs(names, pairs)
+        for pair in pairs:
+            check_among(names, pair)
         self.names = tuple(sorted(names))
         self._above = _closure(self.names, pairs)
         joined = self.pairs()
@@ -79,9 +72,7 @@ class Order:
 
     def below(self, low, high):
         """Tell if low is below or equal to high."""
-        for name in (low, high):
-            if name not in self.names:
-                raise UnknownName(name)
+        check_among(self.names, (low, high))
         return high in self._above[low]
 
     def pairs(self):

@@ -1,6 +1,6 @@
 """What names and written integers look like."""
 
-from onethrow.errors import BadName, DuplicateName
+from onethrow.errors import BadName, DuplicateName, UnknownName
 
 LETTERS = "abcdefghijklmnopqrstuvwxyz"
 DIGITS = "0123456789"
@@ -24,11 +24,29 @@ def check_names(names):
             raise DuplicateName(name)
 
 
+def check_among(known, names):
+    """Raise the error of the first one of some names that is not among the known ones."""
+    for name in names:
+        if name not in known:
+            raise UnknownName(name)
+
+
 def is_positive(text):
     """Tell if a text is a positive integer, without leading zeros and not too long."""
     if not 1 <= len(text) <= MOST_DIGITS:
         return False
     return text[0] != "0" and all([sign in DIGITS for sign in text])
+
+
+def wrong_word(words):
+    """Return the index of the first word that breaks a row of names and weights, or None if none does."""
+    for at, word in enumerate(words):
+        if word == "" or (at % 2 == 1 and not is_positive(word)):
+            return at
+    # Behind the last name a weight is lacking.
+    if len(words) % 2 == 1:
+        return len(words)
+    return None
 
 
 def is_signed(text):

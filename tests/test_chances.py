@@ -2,6 +2,7 @@
 
 import unittest
 
+from helper import raised
 from onethrow.chances import Chance
 from onethrow.errors import BadName, BadNumber, BadShares, BadText, DuplicateName, UnknownName
 from onethrow.ratios import Ratio
@@ -9,16 +10,6 @@ from onethrow.ratios import Ratio
 HUGE = 10 ** 5000
 HALF = Ratio(1, 2)
 NO_NAMES = ["", "A", "aB", "1a", "0", "abcdefghi", "a b", " a", "a_b", "~"]
-
-
-def raised(kind, call, *arguments):
-    """Return the attributes of the error that a call raises, which is of just this class."""
-    try:
-        call(*arguments)
-    except kind as error:
-        assert type(error) is kind
-        return vars(error)
-    raise AssertionError("no error")
 
 
 class MadeTest(unittest.TestCase):

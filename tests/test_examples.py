@@ -4,7 +4,11 @@ import unittest
 
 from onethrow.chances import Chance
 from onethrow.errors import BadText
+from onethrow.machines import Machine
+from onethrow.maps import broken_pair, composed, count_maps, extended, rising_maps, settled
 from onethrow.orders import Order
+from onethrow.packing import cost, is_packing, is_pricing, packed, sum_of
+from onethrow.pairs import barring, lower, pair_table
 from onethrow.ratios import Ratio, greatest, total
 
 
@@ -53,6 +57,64 @@ class ExampleTest(unittest.TestCase):
         with self.assertRaises(BadText) as caught:
             Chance.read("x 1 y 02")
         self.assertEqual(caught.exception.at, 3)
+
+    def test_pairs(self):
+        order = Order.read("x y z; x < y; x < z")
+        low, high = Chance({"x": 1, "y": 1}), Chance({"y": 1, "z": 1})
+        self.assertEqual([lower(order, low, high), barring(order, high, low)], [True, ('z',)])
+        self.assertEqual(
+            [(first, second, str(share)) for first, second, share in pair_table(order, low, high)],
+            [('x', 'z', '1/2'), ('y', 'y', '1/2')],
+        )
+
+    def test_machine_of_a_text(self):
+        order = Order.read("x y z; x < y; x < z")
+        machine = Machine.read(order, order, "x: x 1 y 1; y: y 1 z 1; z: z 2")
+        self.assertEqual(
+            [machine.is_rising(), machine.fault(), str(machine.row("y")), str(machine.power(2)),
+             str(machine.led(machine.row("x")))],
+            [False, ('x', 'z', ('y',)), 'y 1 z 1', 'x: x 1 y 2 z 1; y: y 1 z 3; z: z 1', 'x 1 y 2 z 1'],
+        )
+
+    def test_machines_along_maps(self):
+        order = Order.chain("x", "y")
+        self.assertEqual(
+            [str(Machine.still(order)), Machine.along(order, order, ("y", "x")).fault(),
+             Machine.still(order).turned().is_rising()],
+            ['x: x 1; y: y 1', ('x', 'y', ('y',)), True],
+        )
+
+    def test_machine_of_a_wrong_text(self):
+        order = Order.chain("x", "y")
+        with self.assertRaises(BadText) as caught:
+            Machine.read(order, order, "y: x 1; x x 1")
+        self.assertEqual(caught.exception.at, 1)
+
+    def test_machine_that_is_not_rising(self):
+        order = Order.read("a b c d; a < c; b < c; b < d")
+        machine = Machine.read(order, order, "a: a 1; b: b 1 d 1; c: c 1; d: d 1")
+        self.assertEqual(machine.fault(), ('b', 'c', ('d',)))
+
+    def test_maps(self):
+        chain, fork = Order.chain("a", "b"), Order.read("x y z; x < y; x < z")
+        self.assertEqual(
+            [list(rising_maps(chain, fork)), count_maps(fork, fork), broken_pair(chain, fork, ("y", "z"))],
+            [[('x', 'x'), ('x', 'y'), ('x', 'z'), ('y', 'y'), ('z', 'z')], 11, ('a', 'b')],
+        )
+        self.assertEqual(
+            [extended(fork, fork, {"y": "z", "x": "y"}), extended(fork, fork, {"z": "y"}),
+             composed(fork, ("x", "y"), ("x", "x", "z")), settled(fork, ("x", "x", "z"))],
+            [None, ('x', 'x', 'y'), ('x', 'x'), ['x', 'z']],
+        )
+
+    def test_packing(self):
+        things, limits = [[0, 1], [1, 2], [0, 2]], [Ratio.whole(1), Ratio.whole(1), Ratio.whole(1)]
+        weights, prices = packed(things, limits)
+        self.assertEqual(
+            [str(sum_of(weights)), str(cost(limits, prices)), is_packing(things, limits, weights),
+             is_pricing(things, 3, prices)],
+            ['3/2', '3/2', True, True],
+        )
 
 
 if __name__ == "__main__":

@@ -3,21 +3,12 @@
 import unittest
 from itertools import combinations, product
 
+from helper import raised
 from onethrow.errors import BadName, BadNumber, BadText, DuplicateName, Ring, UnknownName
 from onethrow.orders import Order
 
 EIGHT = ["a", "b", "c", "d", "e", "f", "g", "h"]
 NO_NAMES = ["", "A", "aB", "1a", "0", "abcdefghi", "a b", " a", "a_b", "a-", "_a", "a.", "~", "abcdefgH", "12345678"]
-
-
-def raised(kind, call, *arguments):
-    """Return the attributes of the error that a call raises, which is of just this class."""
-    try:
-        call(*arguments)
-    except kind as error:
-        assert type(error) is kind
-        return vars(error)
-    raise AssertionError("no error")
 
 
 def reached(names, pairs):

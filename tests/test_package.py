@@ -12,6 +12,11 @@ FUNCTIONS = {
     "ratios": ["total", "greatest"],
     "orders": [],
     "chances": [],
+    "pairs": ["lower", "barring", "pair_table", "is_pair_table"],
+    "machines": [],
+    "maps": ["is_rising_map", "broken_pair", "rising_maps", "count_maps", "extended", "composed", "is_below_map",
+             "image", "settled"],
+    "packing": ["packed", "is_packing", "is_pricing", "sum_of", "cost"],
 }
 
 CLASSES = {
@@ -26,6 +31,10 @@ CLASSES = {
     "chances": {
         "Chance": ["sure", "shared", "read", "share", "mass", "weights", "average", "sent", "mixed", "__len__",
                    "__contains__", "__iter__", "__eq__", "__str__"],
+    },
+    "machines": {
+        "Machine": ["still", "along", "read", "row", "rows", "fault", "is_rising", "check", "led", "then", "power",
+                    "mixed", "part", "turned", "__eq__", "__str__"],
     },
 }
 
