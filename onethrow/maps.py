@@ -74,6 +74,13 @@ def maps_within(beginnings, standings, choices):
     yield from _chosen(links, left)
 
 
+def first_within(beginnings, standings, choices):
+    """Return the first rising map that takes each beginning to one of its choices, or None."""
+    for names in maps_within(beginnings, standings, choices):
+        return names
+    return None
+
+
 def rising_maps(beginnings, standings):
     """Yield all rising maps, in ascending order."""
     choices = {name: list(standings) for name in beginnings}
@@ -91,9 +98,7 @@ def extended(beginnings, standings, told):
     check_among(beginnings, sorted(told))
     check_among(standings, [told[name] for name in sorted(told)])
     choices = {name: [told[name]] if name in told else list(standings) for name in beginnings}
-    for names in maps_within(beginnings, standings, choices):
-        return names
-    return None
+    return first_within(beginnings, standings, choices)
 
 
 def composed(middle, first, second):

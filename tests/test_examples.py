@@ -4,12 +4,16 @@ import unittest
 
 from onethrow.chances import Chance
 from onethrow.errors import BadText
+from onethrow.forests import dealt, forest_throw, growth, spanning
 from onethrow.machines import Machine
 from onethrow.maps import broken_pair, composed, count_maps, extended, rising_maps, settled
 from onethrow.orders import Order
 from onethrow.packing import cost, is_packing, is_pricing, packed, sum_of
 from onethrow.pairs import barring, lower, pair_table
+from onethrow.pictures import crown, diamond, is_forest, is_retraction, lows, retraction, ring
 from onethrow.ratios import Ratio, greatest, total
+from onethrow.throws import is_price_list, is_throw, price_cost, prices, rising_share, throw
+from onethrow.verdicts import always, bad_machine
 
 
 class ExampleTest(unittest.TestCase):
@@ -114,6 +118,76 @@ class ExampleTest(unittest.TestCase):
             [str(sum_of(weights)), str(cost(limits, prices)), is_packing(things, limits, weights),
              is_pricing(things, 3, prices)],
             ['3/2', '3/2', True, True],
+        )
+
+    def test_a_machine_without_a_throw(self):
+        crown_of_two = Order.crown(2)
+        machine = Machine.read(
+            crown_of_two, crown_of_two,
+            "a1: a1 1 a2 1 b1 1; a2: a1 1 a2 1 b2 1; b1: a1 1 b1 1 b2 1; b2: a2 1 b1 1 b2 1",
+        )
+        told = prices(machine)
+        self.assertEqual(
+            [machine.is_rising(), str(rising_share(machine)), is_price_list(machine, told),
+             str(price_cost(machine, told))],
+            [True, '8/9', True, '8/9'],
+        )
+
+    def test_a_throw(self):
+        self.assertTrue(callable(is_throw))
+        chain = Order.chain("x", "y")
+        machine = Machine.read(chain, chain, "x: x 2 y 1; y: x 1 y 2")
+        self.assertEqual(
+            [(names, str(share)) for names, share in throw(machine)],
+            [(('x', 'x'), '1/3'), (('x', 'y'), '1/3'), (('y', 'y'), '1/3')],
+        )
+
+    def test_pictures(self):
+        square = Order.read("t x y z; x < y; x < z; y < t; z < t")
+        self.assertEqual(
+            [ring(square), lows(square, ring(square)), diamond(square), crown(square),
+             is_forest(Order.chain("a", "b"))],
+            [['t', 'y', 'x', 'z'], ['x'], ('x', 'y', 'z', 't'), None, True],
+        )
+        web = Order.read("a1 a2 b1 b2 m; a1 < m; m < b1; a1 < b2; a2 < b1; a2 < b2")
+        self.assertEqual(
+            [ring(web), crown(web), is_retraction(web, retraction(web), crown(web))],
+            [['a1', 'b2', 'a2', 'b1', 'm'], ['a1', 'b1', 'a2', 'b2'], True],
+        )
+
+    def test_forests(self):
+        order = Order.read("a b c d; a < c; b < c; b < d")
+        self.assertEqual(
+            [spanning(order), growth(order), spanning(Order.crown(2))],
+            [[('a', 'c'), ('b', 'c'), ('b', 'd')], [('a', None), ('c', 'a'), ('b', 'c'), ('d', 'b')],
+             [('a1', 'b1'), ('a1', 'b2'), ('a2', 'b1')]],
+        )
+        first = [("x", Ratio(1, 2)), ("y", Ratio(1, 2))]
+        second = [(1, Ratio(1, 3)), (2, Ratio(2, 3))]
+        self.assertEqual(
+            [(one, other, str(share)) for one, other, share in dealt(first, second)],
+            [('x', 1, '1/3'), ('x', 2, '1/6'), ('y', 2, '1/2')],
+        )
+
+    def test_a_throw_along_a_forest(self):
+        order = Order.read("x y z; x < y; x < z")
+        machine = Machine.read(order, order, "x: x 2 y 1; y: y 1; z: y 1 z 2")
+        self.assertEqual(
+            [(names, str(share)) for names, share in forest_throw(machine)],
+            [(('x', 'y', 'z'), '2/3'), (('y', 'y', 'y'), '1/3')],
+        )
+
+    def test_verdicts(self):
+        self.assertEqual(
+            [always(Order.chain("x", "y", "z")), always(Order.crown(2)),
+             always(Order.read("a b c d; a < b; c < b; c < d"))],
+            [True, False, True],
+        )
+        machine, told = bad_machine(Order.crown(3))
+        self.assertEqual(
+            [machine.is_rising(), is_price_list(machine, told),
+             price_cost(machine, told).under(price_cost(machine, told) + price_cost(machine, told))],
+            [True, True, True],
         )
 
 

@@ -4,7 +4,7 @@ import inspect
 import unittest
 from itertools import product
 
-from helper import orders_up_to, raised
+from helper import all_maps, orders_up_to, raised, rises
 from onethrow.errors import BadNumber, UnknownName
 from onethrow.maps import (broken_pair, composed, count_maps, extended, image, is_below_map, is_rising_map,
                            maps_within, rising_maps, settled)
@@ -18,17 +18,6 @@ SQUARE = Order.read("t x y z; x < y; x < z; y < t; z < t")
 # The ends a and b come ahead of the names between them.
 ZIGZAG = Order.read("a b c d; a < c; d < c; d < b")
 SOME = orders_up_to(3)[::3] + [Order.crown(2), SQUARE, ZIGZAG, FALL]
-
-
-def rises(beginnings, standings, names):
-    """Tell if a map is rising, by all comparable names."""
-    goals = dict(zip(beginnings.names, names))
-    return all(standings.below(goals[low], goals[high]) for low, high in beginnings.pairs())
-
-
-def all_maps(beginnings, standings):
-    """Return all maps, in ascending order."""
-    return list(product(standings.names, repeat=len(beginnings)))
 
 
 class BrokenPairTest(unittest.TestCase):

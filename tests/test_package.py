@@ -17,6 +17,12 @@ FUNCTIONS = {
     "maps": ["is_rising_map", "broken_pair", "rising_maps", "count_maps", "extended", "composed", "is_below_map",
              "image", "settled"],
     "packing": ["packed", "is_packing", "is_pricing", "sum_of", "cost"],
+    "throws": ["is_part", "is_throw", "is_joint", "greatest_part", "throw", "joint", "rising_share", "harm", "prices",
+               "is_price_list", "price_cost"],
+    "pictures": ["is_ring", "is_forest", "is_crown", "is_retraction", "lows", "ring", "crown", "diamond",
+                 "retraction"],
+    "forests": ["spanning", "growth", "dealt", "joint_along", "forest_throw"],
+    "verdicts": ["always", "bad_machine"],
 }
 
 CLASSES = {

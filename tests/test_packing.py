@@ -4,7 +4,7 @@ import unittest
 from fractions import Fraction
 from itertools import combinations, product
 
-from helper import fraction, raised
+from helper import fraction, raised, some_numbers
 from onethrow.errors import BadNumber
 from onethrow.packing import cost, is_packing, is_pricing, packed, sum_of
 from onethrow.ratios import Ratio
@@ -16,15 +16,6 @@ TRIANGLE = [[0, 1], [1, 2], [0, 2]]
 
 def ratios(text):
     return [Ratio.read(word) for word in text.split()]
-
-
-def some_numbers(count, limit):
-    """Return some integers from 0 on below a limit, always the same ones."""
-    found, state = [], 12345
-    for _ in range(count):
-        state = (state * 1103515245 + 12345) % 2 ** 31
-        found.append(state // 2 ** 16 % limit)
-    return found
 
 
 class PackedTest(unittest.TestCase):
