@@ -1,9 +1,9 @@
 """Chances: shares of names that add up to 1."""
 
-from math import gcd, lcm
+from math import gcd
 
 from onethrow.errors import BadName, BadNumber, BadShares, BadText, UnknownName
-from onethrow.ratios import Ratio, total
+from onethrow.ratios import Ratio, scaled, total
 from onethrow.words import check_names, decimal, is_name, wrong_word
 
 
@@ -15,14 +15,12 @@ def _least(weights):
     return {name: weights[name] // divisor for name in sorted(weights) if weights[name] > 0}
 
 
-def _in_proportion(rows):
-    """Return integers in the proportion of the shares of some rows."""
-    bottom = 1
-    for _, share in rows:
-        bottom = lcm(bottom, share.bottom)
+def in_proportion(rows):
+    """Return for each thing of some rows an integer, all in the proportion of the sums of their shares."""
+    amounts, _ = scaled([share for _, share in rows])
     weights = {}
-    for name, share in rows:
-        weights[name] = weights.get(name, 0) + share.top * (bottom // share.bottom)
+    for (name, _), amount in zip(rows, amounts):
+        weights[name] = weights.get(name, 0) + amount
     return weights
 
 
@@ -56,7 +54,7 @@ class Chance:
         found = total([share for _, share in rows])
         if found != Ratio.whole(1):
             raise BadShares(found)
-        return cls(_in_proportion(rows))
+        return cls(in_proportion(rows))
 
     @classmethod
     def read(cls, text):

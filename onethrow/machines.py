@@ -6,7 +6,7 @@ from onethrow.pairs import barring
 from onethrow.words import check_among, wrong_word
 
 
-def _check_like(first, second):
+def check_like(first, second):
     """Raise an error if two orders are not equal."""
     if first != second:
         raise UnlikeOrders(first, second)
@@ -104,13 +104,13 @@ class Machine:
 
     def then(self, other):
         """Return the machine that goes by this one and then by the other one."""
-        _check_like(self.standings, other.beginnings)
+        check_like(self.standings, other.beginnings)
         rows = {name: other.led(chance) for name, chance in self._rows.items()}
         return Machine(self.beginnings, other.standings, rows)
 
     def power(self, n):
         """Return the machine that goes n times by this one."""
-        _check_like(self.beginnings, self.standings)
+        check_like(self.beginnings, self.standings)
         if n < 0:
             raise BadNumber(n)
         found = Machine.still(self.beginnings)
@@ -126,8 +126,8 @@ class Machine:
 
     def mixed(self, other, share):
         """Return the machine that goes by the other one with a share, and else by this one."""
-        _check_like(self.beginnings, other.beginnings)
-        _check_like(self.standings, other.standings)
+        check_like(self.beginnings, other.beginnings)
+        check_like(self.standings, other.standings)
         rows = {name: chance.mixed(other.row(name), share) for name, chance in self._rows.items()}
         return Machine(self.beginnings, self.standings, rows)
 

@@ -4,7 +4,7 @@ from onethrow.errors import BadNumber
 from onethrow.words import check_among
 
 
-def _check_map(beginnings, standings, names):
+def check_map(beginnings, standings, names):
     """Raise an error if some strings are no map."""
     if len(names) != len(beginnings):
         raise BadNumber(len(names))
@@ -13,7 +13,7 @@ def _check_map(beginnings, standings, names):
 
 def broken_pair(beginnings, standings, names):
     """Return the first cover along which a map does not rise, or None."""
-    _check_map(beginnings, standings, names)
+    check_map(beginnings, standings, names)
     goals = dict(zip(beginnings, names))
     for low, high in beginnings.covers():
         if not standings.below(goals[low], goals[high]):
@@ -125,5 +125,5 @@ def image(names):
 
 def settled(order, names):
     """Return the names that a map from an order to itself leaves where they are."""
-    _check_map(order, order, names)
+    check_map(order, order, names)
     return [name for name, goal in zip(order, names) if name == goal]

@@ -6,10 +6,8 @@ things. The first number of a line is the weight of the thing, or what is left o
 room, tell how this number grows with the limits. The last line has the sum of the weights instead, and so the prices.
 """
 
-from math import lcm
-
 from onethrow.errors import BadNumber
-from onethrow.ratios import Ratio, total
+from onethrow.ratios import Ratio, scaled, total
 
 
 def _first_lines(amounts):
@@ -94,13 +92,10 @@ def packed(things, limits):
     for at, rooms in enumerate(things):
         if len(rooms) == 0:
             raise BadNumber(at)
-    scale = 1
-    for limit in limits:
-        scale = lcm(scale, limit.bottom)
+    amounts, scale = scaled(limits)
     # The first number of a line is no room's, so the rooms have their places one further.
     places = [[room + 1 for room in rooms] for rooms in things]
-    start = _first_lines([limit.top * (scale // limit.bottom) for limit in limits])
-    lines, owners, divisor = _solved(places, start)
+    lines, owners, divisor = _solved(places, _first_lines(amounts))
     weights = [Ratio.whole(0) for _ in things]
     for thing, line in zip(owners, lines):
         if thing is not None:

@@ -1,6 +1,6 @@
 """Ratios: exact fractions of integers."""
 
-from math import gcd
+from math import gcd, lcm
 
 from onethrow.errors import BadNumber, BadText
 from onethrow.words import decimal, is_positive, is_signed
@@ -84,3 +84,11 @@ def greatest(ratios):
         if best.under(ratio):
             best = ratio
     return best
+
+
+def scaled(ratios):
+    """Return integers in the proportion of some ratios, and the integer that stands for 1 among them."""
+    whole = 1
+    for ratio in ratios:
+        whole = lcm(whole, ratio.bottom)
+    return ([ratio.top * (whole // ratio.bottom) for ratio in ratios], whole)

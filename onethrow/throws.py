@@ -1,12 +1,10 @@
 """Throws of machines: tables of rising maps, and prices that show that no table has greater shares."""
 
-from math import lcm
-
 from onethrow.errors import NoThrow
 from onethrow.forests import dealt
 from onethrow.maps import is_rising_map, maps_within
 from onethrow.packing import packed
-from onethrow.ratios import Ratio, total
+from onethrow.ratios import Ratio, scaled, total
 
 
 def _pairs(machine):
@@ -77,22 +75,15 @@ def prices(machine):
     return {pair: paid.get(pair, Ratio.whole(1)) for pair in _pairs(machine)}
 
 
-def _amounts(paid):
-    """Return integers in the proportion of some prices, and the integer of the price 1."""
-    whole = 1
-    for price in paid.values():
-        whole = lcm(whole, price.bottom)
-    return ({pair: price.top * (whole // price.bottom) for pair, price in paid.items()}, whole)
-
-
 def is_price_list(machine, prices):
     """Tell if a dictionary is a price list."""
     pairs = _pairs(machine)
     if len(prices) != len(pairs) or not all([pair in prices for pair in pairs]):
         return False
-    amounts, whole = _amounts(prices)
-    if any([amount < 0 for amount in amounts.values()]):
+    found, whole = scaled(list(prices.values()))
+    if any([amount < 0 for amount in found]):
         return False
+    amounts = dict(zip(prices, found))
     # A map with a pair that costs 1 or more is paid.
     choices = {
         name: [goal for goal in machine.standings if amounts[name, goal] < whole] for name in machine.beginnings

@@ -2,9 +2,12 @@
 
 import unittest
 
+from onethrow.backward import bounds, closed_sets, ended, machine_of, meets, resting, thrown, together
 from onethrow.chances import Chance
 from onethrow.errors import BadText
 from onethrow.forests import dealt, forest_throw, growth, spanning
+from onethrow.hidden import Hidden
+from onethrow.lab import Lab
 from onethrow.machines import Machine
 from onethrow.maps import broken_pair, composed, count_maps, extended, rising_maps, settled
 from onethrow.orders import Order
@@ -12,6 +15,7 @@ from onethrow.packing import cost, is_packing, is_pricing, packed, sum_of
 from onethrow.pairs import barring, lower, pair_table
 from onethrow.pictures import crown, diamond, is_forest, is_retraction, lows, retraction, ring
 from onethrow.ratios import Ratio, greatest, total
+from onethrow.shapes import count_orders, forest_shapes, plain_shape, renamed, same_shape, shapes, symmetries
 from onethrow.throws import is_price_list, is_throw, price_cost, prices, rising_share, throw
 from onethrow.verdicts import always, bad_machine
 
@@ -188,6 +192,71 @@ class ExampleTest(unittest.TestCase):
             [machine.is_rising(), is_price_list(machine, told),
              price_cost(machine, told).under(price_cost(machine, told) + price_cost(machine, told))],
             [True, True, True],
+        )
+
+    def test_backward(self):
+        order = Order.chain("x", "y")
+        rows = [(("x", "x"), Ratio(1, 3)), (("x", "y"), Ratio(1, 3)), (("y", "y"), Ratio(1, 3))]
+        self.assertEqual(
+            [str(machine_of(order, order, rows)), [(names, str(share)) for names, share in thrown(order, rows, 2)],
+             str(together(order, rows, 2))],
+            ['x: x 2 y 1; y: x 1 y 2', [(('x', 'x'), '4/9'), (('x', 'y'), '1/9'), (('y', 'y'), '4/9')], '8/9'],
+        )
+        self.assertEqual(
+            [ended(order, rows, [1, 1, 2, 0]), ended(order, rows, [1]), meets(order, rows),
+             [str(chance) for chance in resting(machine_of(order, order, rows))]],
+            [(3, 'y'), None, True, ['x 1 y 1']],
+        )
+        self.assertEqual(
+            [[str(bound) for bound in bounds(order, rows, 1)["x"]],
+             closed_sets(machine_of(order, order, [(("x", "y"), Ratio.whole(1))]))],
+            [['1/3', '2/3'], [['x'], ['y']]],
+        )
+
+    def test_shapes(self):
+        self.assertTrue(callable(renamed))
+        fork = Order.read("x y z; x < y; x < z")
+        self.assertEqual(
+            [str(plain_shape(fork)), same_shape(fork, Order.read("p q r; q < p; q < r")), symmetries(fork),
+             same_shape(fork, fork.turned())],
+            ['a b c; a < b; a < c', {'x': 'q', 'y': 'p', 'z': 'r'}, 2, None],
+        )
+        self.assertEqual(
+            [[str(order) for order in shapes(2)], len(list(shapes(4))), len(forest_shapes(4)), count_orders(3)],
+            [['a b', 'a b; a < b'], 16, 14, 19],
+        )
+
+    def test_lab(self):
+        chain = Order.chain("x", "y", "z")
+        lab = Lab(chain, chain)
+        self.assertIs(lab.tell("x", Chance.read("x 1 y 1")), None)
+        self.assertIs(lab.tell("z", Chance.read("y 1 z 3")), None)
+        self.assertEqual(
+            [lab.untold(), lab.fault(), str(lab.share()), [str(bound) for bound in lab.bounds("y", ["y"])],
+             lab.fits("y", Chance.sure("x"))],
+            [['y'], None, '1', ['1/2', '1'], False],
+        )
+        self.assertIs(lab.tell("y", Chance.read("x 3 z 1")), None)
+        self.assertEqual(
+            [lab.fault(), str(lab.share()), lab.undo(), len(lab), str(lab.machine()),
+             is_throw(lab.machine(), lab.throw())],
+            [('x', 'y', ('y', 'z')), '3/4', None, 2, 'x: x 1 y 1; z: y 1 z 3', True],
+        )
+
+    def test_hidden(self):
+        hidden = Hidden(["x", "y", "z"])
+        told = [hidden.tell(("below", "x", "y"), True), hidden.tell(("up", ["z"]), True),
+                hidden.tell(("below", "y", "x"), True)]
+        self.assertEqual(
+            [told, hidden.many(), hidden.says(("forest",)), hidden.says(("below", "z", "x")),
+             hidden.says(("below", "y", "z"))],
+            [[True, True, False], 3, 'sure', 'never', 'open'],
+        )
+        self.assertEqual(
+            [hidden.supposed([(("map", ["y", "y", "x"]), True)], ("below", "x", "z")),
+             [str(order) for order in hidden.possible()],
+             hidden.best(("below", "x", "z"), ("below", "y", "z"))],
+            ['never', ['x y z; x < y', 'x y z; x < y; x < z', 'x y z; x < y; y < z'], 0],
         )
 
 

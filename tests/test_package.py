@@ -23,6 +23,10 @@ FUNCTIONS = {
                  "retraction"],
     "forests": ["spanning", "growth", "dealt", "joint_along", "forest_throw"],
     "verdicts": ["always", "bad_machine"],
+    "backward": ["machine_of", "thrown", "landed", "together", "ended", "meets", "closed_sets", "resting", "bounds"],
+    "shapes": ["renamed", "same_shape", "symmetries", "plain_shape", "shapes", "forest_shapes", "count_orders"],
+    "lab": [],
+    "hidden": [],
 }
 
 CLASSES = {
@@ -41,6 +45,14 @@ CLASSES = {
     "machines": {
         "Machine": ["still", "along", "read", "row", "rows", "fault", "is_rising", "check", "led", "then", "power",
                     "mixed", "part", "turned", "__eq__", "__str__"],
+    },
+    "lab": {
+        "Lab": ["tell", "forget", "undo", "__len__", "told", "untold", "machine", "fault", "share", "throw", "fits",
+                "bounds"],
+    },
+    "hidden": {
+        "Hidden": ["tell", "told", "undo", "possible", "many", "says", "needless", "best", "knows", "supposed",
+                   "__len__"],
     },
 }
 
