@@ -343,6 +343,9 @@ class FactErrorTest(unittest.TestCase):
         self.assertIs(hidden.supposed(rows, FOREST), None)
         self.assertEqual(raised(BadName, hidden.supposed, rows, ("no",)), {"name": "no"})
         self.assertEqual(raised(BadNumber, hidden.supposed, rows + [(("up",), True)], FOREST), {"n": 1})
+        # The errors leave nothing behind.
+        self.assertEqual(hidden.supposed([(BELOW, True)], BELOW), "sure")
+        self.assertEqual([hidden.says(BELOW), hidden.supposed([], BELOW)], ["open", "open"])
         self.assertEqual([hidden.many(), len(hidden)], [19, 0])
 
     def test_names_of_an_image_may_come_again(self):

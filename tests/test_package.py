@@ -2,59 +2,89 @@
 
 import ast
 import importlib
+import inspect
 import pathlib
 import unittest
 
 FOLDER = pathlib.Path(__file__).resolve().parent.parent / "onethrow"
 
+# Names with their arguments, as the document writes them.
 FUNCTIONS = {
-    "errors": [],
-    "ratios": ["total", "greatest"],
-    "orders": [],
-    "chances": [],
-    "pairs": ["lower", "barring", "pair_table", "is_pair_table"],
-    "machines": [],
-    "maps": ["is_rising_map", "broken_pair", "rising_maps", "count_maps", "extended", "composed", "is_below_map",
-             "image", "settled"],
-    "packing": ["packed", "is_packing", "is_pricing", "sum_of", "cost"],
-    "throws": ["is_part", "is_throw", "is_joint", "greatest_part", "throw", "joint", "rising_share", "harm", "prices",
-               "is_price_list", "price_cost"],
-    "pictures": ["is_ring", "is_forest", "is_crown", "is_retraction", "lows", "ring", "crown", "diamond",
-                 "retraction"],
-    "forests": ["spanning", "growth", "dealt", "joint_along", "forest_throw"],
-    "verdicts": ["always", "bad_machine"],
-    "backward": ["machine_of", "thrown", "landed", "together", "ended", "meets", "closed_sets", "resting", "bounds"],
-    "shapes": ["renamed", "same_shape", "symmetries", "plain_shape", "shapes", "forest_shapes", "count_orders"],
-    "lab": [],
-    "hidden": [],
+    "ratios": ["total(ratios)", "greatest(ratios)"],
+    "pairs": ["lower(order, low, high)", "barring(order, low, high)", "pair_table(order, low, high)",
+              "is_pair_table(order, low, high, rows)"],
+    "maps": ["is_rising_map(beginnings, standings, names)", "broken_pair(beginnings, standings, names)",
+             "rising_maps(beginnings, standings)", "count_maps(beginnings, standings)",
+             "extended(beginnings, standings, told)", "composed(middle, first, second)",
+             "is_below_map(standings, first, second)", "image(names)", "settled(order, names)"],
+    "packing": ["packed(things, limits)", "is_packing(things, limits, weights)",
+                "is_pricing(things, count, prices)", "sum_of(weights)", "cost(limits, prices)"],
+    "throws": ["is_part(machine, rows)", "is_throw(machine, rows)", "is_joint(machine, rows)",
+               "greatest_part(machine)", "throw(machine)", "joint(machine)", "rising_share(machine)",
+               "harm(machine, rows)", "prices(machine)", "is_price_list(machine, prices)",
+               "price_cost(machine, prices)"],
+    "pictures": ["is_ring(order, names)", "is_forest(order)", "is_crown(order, names)",
+                 "is_retraction(order, taken, names)", "lows(order, ring)", "ring(order)", "crown(order)",
+                 "diamond(order)", "retraction(order)"],
+    "forests": ["spanning(order)", "growth(order)", "dealt(first, second)", "joint_along(machine)",
+                "forest_throw(machine)"],
+    "verdicts": ["always(order)", "bad_machine(order)"],
+    "backward": ["machine_of(beginnings, standings, rows)", "thrown(order, rows, steps)",
+                 "landed(order, rows, steps)", "together(order, rows, steps)", "ended(order, rows, throws)",
+                 "meets(order, rows)", "closed_sets(machine)", "resting(machine)", "bounds(order, rows, steps)"],
+    "shapes": ["renamed(order, names)", "same_shape(first, second)", "symmetries(order)", "plain_shape(order)",
+               "shapes(size)", "forest_shapes(size)", "count_orders(size)"],
 }
 
 CLASSES = {
     "ratios": {
-        "Ratio": ["whole", "read", "quotient", "under", "__add__", "__sub__", "__mul__", "__neg__", "__eq__",
-                  "__bool__", "__str__"],
+        "Ratio(top, bottom)": [
+            "whole(n)", "read(text)", "quotient(other)", "under(other)", "__add__",
+            "__sub__", "__mul__", "__neg__", "__eq__", "__bool__", "__str__",
+        ],
     },
     "orders": {
-        "Order": ["below", "pairs", "covers", "ups", "turned", "part", "chain", "crown", "read", "__contains__",
-                  "__len__", "__iter__", "__eq__", "__str__"],
+        "Order(names, pairs)": [
+            "below(low, high)", "pairs()", "covers()", "ups()", "turned()",
+            "part(names)", "chain(*names)", "crown(size)", "read(text)", "__contains__", "__len__", "__iter__",
+            "__eq__", "__str__",
+        ],
     },
     "chances": {
-        "Chance": ["sure", "shared", "read", "share", "mass", "weights", "average", "sent", "mixed", "__len__",
-                   "__contains__", "__iter__", "__eq__", "__str__"],
+        "Chance(weights)": [
+            "sure(name)", "shared(rows)", "read(text)", "share(name)", "mass(names)",
+            "weights()", "average(values)", "sent(names)", "mixed(other, share)", "__len__", "__contains__",
+            "__iter__", "__eq__", "__str__",
+        ],
     },
     "machines": {
-        "Machine": ["still", "along", "read", "row", "rows", "fault", "is_rising", "check", "led", "then", "power",
-                    "mixed", "part", "turned", "__eq__", "__str__"],
+        "Machine(beginnings, standings, rows)": [
+            "still(order)", "along(beginnings, standings, names)",
+            "read(beginnings, standings, text)", "row(name)", "rows()", "fault()", "is_rising()", "check()",
+            "led(chance)", "then(other)", "power(n)", "mixed(other, share)", "part(names)", "turned()", "__eq__",
+            "__str__",
+        ],
     },
     "lab": {
-        "Lab": ["tell", "forget", "undo", "__len__", "told", "untold", "machine", "fault", "share", "throw", "fits",
-                "bounds"],
+        "Lab(beginnings, standings)": [
+            "tell(name, chance)", "forget(name)", "undo()", "__len__",
+            "told()", "untold()", "machine()", "fault()", "share()", "throw()", "fits(name, chance)",
+            "bounds(name, wish)",
+        ],
     },
     "hidden": {
-        "Hidden": ["tell", "told", "undo", "possible", "many", "says", "needless", "best", "knows", "supposed",
-                   "__len__"],
+        "Hidden(names)": [
+            "tell(fact, holds)", "told()", "undo()", "possible()", "many()",
+            "says(fact)", "needless()", "best(*facts)", "knows(fact)", "supposed(rows, fact)", "__len__",
+        ],
     },
 }
+
+
+def written(name, value):
+    """Return the name of a function or class with its arguments, without that of its own object."""
+    arguments = [parameter for parameter in inspect.signature(value).parameters.values() if parameter.name != "self"]
+    return f"{name}({', '.join([str(parameter) for parameter in arguments])})"
 
 
 class InterfaceTest(unittest.TestCase):
@@ -62,15 +92,21 @@ class InterfaceTest(unittest.TestCase):
         for word, functions in FUNCTIONS.items():
             module = importlib.import_module(f"onethrow.{word}")
             for function in functions:
-                self.assertEqual(getattr(module, function).__module__, f"onethrow.{word}")
+                name = function.partition("(")[0]
+                self.assertEqual(getattr(module, name).__module__, f"onethrow.{word}")
+                self.assertEqual(written(name, getattr(module, name)), function)
 
     def test_methods_are_defined_in_their_classes(self):
         for word, classes in CLASSES.items():
             module = importlib.import_module(f"onethrow.{word}")
             for kind, methods in classes.items():
-                self.assertEqual(getattr(module, kind).__module__, f"onethrow.{word}")
+                found = getattr(module, kind.partition("(")[0])
+                self.assertEqual([found.__module__, written(found.__name__, found)], [f"onethrow.{word}", kind])
                 for method in methods:
-                    self.assertIn(method, vars(getattr(module, kind)), f"{kind}.{method}")
+                    name = method.partition("(")[0]
+                    self.assertIn(name, vars(found), f"{kind}.{method}")
+                    if not name.startswith("__"):
+                        self.assertEqual(written(name, getattr(found, name)), method)
 
 
 class FileTest(unittest.TestCase):
@@ -98,6 +134,18 @@ class FileTest(unittest.TestCase):
                 self.assertNotIsInstance(node, ast.Import, file)
                 if isinstance(node, ast.ImportFrom) and not node.module.startswith("onethrow."):
                     self.assertLessEqual({alias.name for alias in node.names}, allowed.get(node.module, set()), file)
+
+    def test_no_files_import_each_other(self):
+        left = {}
+        for file in self.files():
+            nodes = ast.walk(ast.parse(file.read_text(encoding="utf-8")))
+            imports = {node.module for node in nodes if isinstance(node, ast.ImportFrom)}
+            left[f"onethrow.{file.stem}"] = {word for word in imports if word.startswith("onethrow.")}
+        while left:
+            # Something always imports nothing of what is left, unless there is a circle.
+            ready = [word for word, imports in left.items() if not imports & set(left)]
+            self.assertTrue(ready, sorted(left))
+            left = {word: imports for word, imports in left.items() if word not in ready}
 
 
 if __name__ == "__main__":
