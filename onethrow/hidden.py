@@ -1,24 +1,12 @@
 """A hidden order, of which true things are told."""
 
 from onethrow.errors import BadName, BadNumber, DuplicateName, NothingToUndo
-from onethrow.maps import is_rising_map
-from onethrow.pictures import diamond, is_forest
-from onethrow.shapes import arrangements, renamed, shapes
+from onethrow.ways import Ways, how_many
 from onethrow.words import check_among, check_names
 
 MOST_TOLD = 4
 # The first word of each fact, with the number of its items.
 ITEMS = {"below": 3, "up": 2, "map": 2, "forest": 1, "diamond": 1}
-
-
-def _orders(names):
-    """Return all orders of some names, in ascending order of their texts."""
-    found = {}
-    for shape in shapes(len(names)):
-        for way in arrangements(names):
-            order = renamed(shape, dict(zip(shape, way)))
-            found[str(order)] = order
-    return [found[text] for text in sorted(found)]
 
 
 def _strings(fact):
@@ -32,38 +20,6 @@ def _kept(fact):
     return tuple([tuple(item) if isinstance(item, list) else item for item in fact])
 
 
-def _is_up(order, names):
-    """Tell if some names are an up-set."""
-    return all([high in names for low, high in order.pairs() if low in names])
-
-
-def _holds(order, fact):
-    """Tell if a fact holds for an order."""
-    word, *items = fact
-    if word == "below":
-        return order.below(items[0], items[1])
-    if word == "up":
-        return _is_up(order, items[0])
-    if word == "map":
-        return is_rising_map(order, order, items[0])
-    if word == "forest":
-        return is_forest(order)
-    return diamond(order) is not None
-
-
-def _fitting(orders, fact, holds):
-    """Return the orders for which a fact holds, or does not hold."""
-    return [order for order in orders if _holds(order, fact) == holds]
-
-
-def _verdict(orders, fact):
-    """Return whether a fact holds in some orders, of which there is one at least."""
-    many = len(_fitting(orders, fact, True))
-    if many == len(orders):
-        return "sure"
-    return "open" if many > 0 else "never"
-
-
 class Hidden:
     """An order of told names that is not known, and what is told of it."""
 
@@ -72,9 +28,12 @@ class Hidden:
             raise BadNumber(len(names))
         check_names(names)
         self.names = tuple(sorted(names))
+        self._ways = Ways(self.names)
         self._told = []
+        # For each thing that is told, the orders that fit it alone.
+        self._fitting = []
         # The orders that fit, ahead of all that is told and behind each thing that is told.
-        self._left = [_orders(self.names)]
+        self._left = [self._ways.orders]
 
     def _check(self, fact):
         """Raise an error if a fact is none of the told names."""
@@ -94,13 +53,38 @@ class Hidden:
                 if name in strings[:at]:
                     raise DuplicateName(name)
 
+    def _holding(self, fact):
+        """Return the orders in which a fact holds."""
+        word, *items = fact
+        if word == "below":
+            return self._ways.below(items[0], items[1])
+        if word == "up":
+            return self._ways.with_up(items[0])
+        if word == "map":
+            return self._ways.with_map(items[0])
+        return self._ways.forests if word == "forest" else self._ways.diamonds
+
+    def _agreeing(self, fact, holds):
+        """Return the orders in which a fact holds, or those in which it does not hold."""
+        ways = self._holding(fact)
+        return ways if holds else self._ways.orders & ~ways
+
+    def _verdict(self, ways, fact):
+        """Return whether a fact holds in some orders, of which there is one at least."""
+        among = ways & self._holding(fact)
+        if among == ways:
+            return "sure"
+        return "open" if among != 0 else "never"
+
     def tell(self, fact, holds):
         """Tell whether a fact holds, unless no order would fit."""
         self._check(fact)
-        left = _fitting(self._left[-1], fact, holds)
-        if not left:
+        agreeing = self._agreeing(fact, holds)
+        left = self._left[-1] & agreeing
+        if left == 0:
             return False
         self._told.append((_kept(fact), holds))
+        self._fitting.append(agreeing)
         self._left.append(left)
         return True
 
@@ -116,16 +100,17 @@ class Hidden:
         if not self._told:
             raise NothingToUndo()
         self._told.pop()
+        self._fitting.pop()
         self._left.pop()
 
     def possible(self):
         """Yield all orders that fit, in ascending order of their texts."""
-        for order in list(self._left[-1]):
+        for order in self._ways.listed(self._left[-1]):
             yield order
 
     def many(self):
         """Return the number of the orders that fit."""
-        return len(self._left[-1])
+        return how_many(self._left[-1])
 
     def knows(self, fact):
         """Tell if a fact holds in all orders that fit."""
@@ -134,24 +119,28 @@ class Hidden:
     def says(self, fact):
         """Return whether a fact holds: sure, never or open."""
         self._check(fact)
-        return _verdict(self._left[-1], fact)
+        return self._verdict(self._left[-1], fact)
 
     def needless(self):
         """Return the indices of what was told that could be left out, each alone."""
-        against = [[_holds(order, fact) != holds for fact, holds in self._told] for order in self._left[0]]
-        # What alone is against some order is what bars it.
-        barring = [row.index(True) for row in against if row.count(True) == 1]
-        return [at for at in range(len(self._told)) if at not in barring]
+        found = []
+        # The orders that fit all that is told behind an index.
+        behind = self._ways.orders
+        for at in range(len(self._told) - 1, -1, -1):
+            if self._left[at] & behind == self._left[-1]:
+                found.append(at)
+            behind = behind & self._fitting[at]
+        return found[::-1]
 
     def best(self, *facts):
         """Return the index of the fact that leaves the fewest orders if its worse answer comes, or None."""
         for fact in facts:
             self._check(fact)
-        orders = self._left[-1]
+        ways = self._left[-1]
         worst = []
         for fact in facts:
-            many = len(_fitting(orders, fact, True))
-            worst.append(max(many, len(orders) - many))
+            many = how_many(ways & self._holding(fact))
+            worst.append(max(many, how_many(ways) - many))
         return worst.index(min(worst)) if worst else None
 
     def supposed(self, rows, fact):
@@ -159,7 +148,7 @@ class Hidden:
         for told, _ in rows:
             self._check(told)
         self._check(fact)
-        orders = self._left[-1]
+        ways = self._left[-1]
         for told, holds in rows:
-            orders = _fitting(orders, told, holds)
-        return _verdict(orders, fact) if orders else None
+            ways = ways & self._agreeing(told, holds)
+        return self._verdict(ways, fact) if ways != 0 else None

@@ -1,6 +1,7 @@
 """Points 15.1 to 15.7: a hidden order."""
 
 import inspect
+import sys
 import unittest
 from itertools import permutations, product
 
@@ -49,6 +50,29 @@ def facts(size):
     found = found + [("up", way) for count in range(size + 1) for way in list(permutations(names, count))[:5]]
     found = found + [("map", list(goals)) for goals in list(product(names, repeat=size))[1::5]]
     return found + [FOREST, DIAMOND]
+
+
+def all_facts(size):
+    """Return all facts about the first letters."""
+    names = LETTERS[:size]
+    found = [("below", low, high) for low in names for high in names]
+    found = found + [("up", way) for count in range(size + 1) for way in permutations(names, count)]
+    return found + [("map", goals) for goals in product(names, repeat=size)] + [FOREST, DIAMOND]
+
+
+def calls_made(call):
+    """Return how many functions, Python's own included, are called while a function runs."""
+    counts = {}
+
+    def count(frame, event, argument):
+        counts[event] = counts.get(event, 0) + 1
+
+    sys.setprofile(count)
+    try:
+        call()
+    finally:
+        sys.setprofile(None)
+    return counts.get("call", 0) + counts.get("c_call", 0)
 
 
 def some_told(size, count, state):
@@ -296,6 +320,137 @@ class SupposedTest(unittest.TestCase):
                 fact = choices[numbers[place + 2] // 2]
                 self.assertEqual(hidden.supposed(rows, fact), said(size, told + rows, fact))
             self.assertEqual(len(hidden), len(told))
+
+
+class Sets:
+    """What the document says of a hidden order, by the sets of the orders in which each fact holds."""
+
+    def __init__(self, size):
+        self.orders = ORDERS[size]
+        self.all = frozenset(range(len(self.orders)))
+        self.facts = all_facts(size)
+        # In whatever order its names come, an up-set is the same.
+        self.where = {}
+        for fact in self.facts:
+            if fact[0] == "up" and list(fact[1]) != sorted(fact[1]):
+                self.where[fact] = self.where[("up", tuple(sorted(fact[1])))]
+            else:
+                self.where[fact] = frozenset(at for at in self.all if holds(self.orders[at], fact))
+
+    def left(self, told):
+        """Return the places of the orders that fit what was told."""
+        found = self.all
+        for fact, wanted in told:
+            found = found & self.where[fact] if wanted else found - self.where[fact]
+        return found
+
+    def said(self, told, fact):
+        """Return what is to be said of a fact behind what was told."""
+        left = self.left(told)
+        if not left:
+            return None
+        return "sure" if left <= self.where[fact] else "open" if left & self.where[fact] else "never"
+
+    def needless(self, told):
+        """Return what of what was told could be left out."""
+        left = self.left(told)
+        return [at for at in range(len(told)) if self.left(told[:at] + told[at + 1:]) == left]
+
+    def best(self, told, some):
+        """Return the place of the best one of some facts."""
+        left = self.left(told)
+        worst = [max(len(left & self.where[fact]), len(left - self.where[fact])) for fact in some]
+        return worst.index(min(worst)) if some else None
+
+    def possible(self, told):
+        """Return the orders that fit what was told."""
+        return [self.orders[at] for at in sorted(self.left(told))]
+
+
+class SequenceTest(unittest.TestCase):
+    SETS = {size: Sets(size) for size in ORDERS}
+
+    def test_all_facts(self):
+        for size, sets in self.SETS.items():
+            hidden = Hidden(LETTERS[:size])
+            for fact in sets.facts:
+                self.assertEqual(hidden.says(fact), sets.said([], fact))
+                for wanted in (True, False):
+                    told = [(fact, wanted)]
+                    self.assertIs(hidden.tell(fact, wanted), bool(sets.left(told)))
+                    self.assertEqual(hidden.many(), len(sets.left(hidden.told())))
+                    self.assertEqual(list(hidden.possible()), sets.possible(hidden.told()))
+                    if hidden.told():
+                        hidden.undo()
+
+    def compare(self, hidden, sets, told, some, rows):
+        """Compare all answers of a hidden order with what the document says."""
+        self.assertEqual([hidden.told(), len(hidden), hidden.many()], [told, len(told), len(sets.left(told))])
+        self.assertEqual(hidden.needless(), sets.needless(told))
+        for count in range(len(some) + 1):
+            self.assertEqual(hidden.best(*some[:count]), sets.best(told, some[:count]))
+        for fact in some:
+            self.assertEqual(hidden.says(fact), sets.said(told, fact))
+            self.assertIs(hidden.knows(fact), sets.said(told, fact) == "sure")
+        for count in range(len(rows) + 1):
+            self.assertEqual(hidden.supposed(rows[:count], some[0]), sets.said(told + rows[:count], some[0]))
+
+    def test_sequences(self):
+        for size, count in [(1, 20), (2, 60), (3, 150), (4, 300)]:
+            sets = self.SETS[size]
+            numbers = some_numbers(count * 14, 2 * len(sets.facts), 100 + size)
+            for start in range(0, len(numbers), 14):
+                hidden, told = Hidden(LETTERS[:size][::-1]), []
+                drawn = [(sets.facts[number // 2], number % 2 == 0) for number in numbers[start:start + 14]]
+                some = [fact for fact, _ in drawn[8:12]] + [FOREST, DIAMOND]
+                self.compare(hidden, sets, told, some, drawn[12:])
+                for at, (fact, wanted) in enumerate(drawn[:8]):
+                    fits = bool(sets.left(told + [(fact, wanted)]))
+                    self.assertIs(hidden.tell(fact, wanted), fits)
+                    if fits:
+                        told.append((fact, wanted))
+                    if at % 3 == 2 and told:
+                        hidden.undo()
+                        told.pop()
+                    self.compare(hidden, sets, told, some, drawn[12:])
+                self.assertEqual(list(hidden.possible()), sets.possible(told))
+
+    def test_orders_that_were_made_before(self):
+        sets = self.SETS[4]
+        hidden = Hidden(LETTERS)
+        told = [(("below", "a", "b"), False), (("up", ("c", "d")), True), (DIAMOND, False), (FOREST, False)]
+        for at, row in enumerate(told):
+            self.assertIs(hidden.tell(*row), True)
+            self.assertEqual(list(hidden.possible()), sets.possible(told[:at + 1]))
+        for at in (3, 2, 1, 0):
+            hidden.undo()
+            self.assertEqual(list(hidden.possible()), sets.possible(told[:at]))
+
+    def test_many_questions_take_few_steps(self):
+        some = [("map", tuple("abad")), ("map", tuple("bbcd")), FOREST, DIAMOND]
+        told = [(("map", tuple("aacd")), True), (("map", tuple("abbd")), True), (("map", tuple("abcc")), True),
+                (("up", ("d",)), True)]
+        found = []
+
+        def ask():
+            hidden = Hidden(["d", "c", "b", "a"])
+            for row in told:
+                found.append(hidden.tell(*row))
+                for _ in range(2):
+                    found.append([hidden.needless(), hidden.needless(), hidden.best(*some[:2]), hidden.best(*some)])
+                    found.append([(hidden.says(each), hidden.knows(each), hidden.knows(each)) for each in some])
+                found.append(hidden.supposed([(some[0], True)], some[1]))
+
+        # These are about 2,000 calls, Python's own included; to look at single orders takes hundreds of thousands.
+        self.assertLess(calls_made(ask), 6000)
+        sets, wanted = self.SETS[4], []
+        for count in range(1, len(told) + 1):
+            rows = told[:count]
+            says = [sets.said(rows, each) for each in some]
+            answers = [[sets.needless(rows)] * 2 + [sets.best(rows, some[:2]), sets.best(rows, some)],
+                       [(word, word == "sure", word == "sure") for word in says]]
+            wanted = wanted + [True, *answers, *answers, sets.said(rows + [(some[0], True)], some[1])]
+        self.assertEqual(found, wanted)
 
 
 class FactErrorTest(unittest.TestCase):
